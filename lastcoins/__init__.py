@@ -1,0 +1,1 @@
+"""Shares to the last coin: the calls are in lastcoins.shares."""
