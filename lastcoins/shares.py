@@ -100,11 +100,10 @@ def coins_given_early(rule, pot, weights):
 
     A pot may be too great to be given one by one. All coins of worth 1 / t or more are given
     ahead of all others, and a holder has (weight * t + rule) / 2 of them, rounded down. With
-    t = reach / whole these are, before rounding, just the pot, so rounded they never pass it.
+    t = reach / whole these, before rounding, are together at most the pot, so they never pass it.
     """
     whole = sum(weights)
-    sharing = len([weight for weight in weights if weight > 0])
-    reach = 2 * pot - rule * sharing
+    reach = 2 * pot - rule * len(weights)
     # Below 0 there is no such t, but then the pot is smaller than the number of holders.
     if reach < 0:
         return [0 for weight in weights]

@@ -91,4 +91,6 @@ class DivisorTest(unittest.TestCase):
         for rule in RULES:
             for pot in range(MOST - 60, MOST + 1):
                 each, more = divmod(pot, 7)
-                self.assertEqual(divisor(rule, pot, [3] * 7), [0] + [each + 1] * more + [each] * (7 - more))
+                with within_seconds(5):
+                    answer = divisor(rule, pot, [3] * 7)
+                self.assertEqual(answer, [0] + [each + 1] * more + [each] * (7 - more))
