@@ -1,15 +1,21 @@
 """Coins of a pot shared among holders by their weights, to the last coin.
 
-Each call gives back one list: its value and then its row, or a refusal's number alone.
+Each call gives back one list: its value and then its rows, or a refusal's number alone.
 """
 
 MOST_COINS = 1000000000000000
 MOST_HOLDERS = 60
 LAST_DIVISOR_RULE = 2
+GREATEST_REMAINDERS = 3
 
 ACCEPTED = 0
 OUT_OF_BOUNDS = -12
 ALL_WEIGHTS_ZERO = -2
+WRONG_COUNT = -1
+LOWS_ABOVE_POT = -3
+TOO_LITTLE_ROOM = -4
+LOW_ABOVE_HIGH = -5
+TOO_MANY_COINS = -6
 
 
 def down(pot, weights):
@@ -42,6 +48,55 @@ def divisor(rule, pot, weights):
     return [0] + by_divisor(rule, pot, weights)
 
 
+def bounded(rule, pot, weights, lows, highs):
+    """Shares by the divisor rule 0, 1 or 2 with lows and highs; the value is 0."""
+    refused = (
+        refusal_of_number(rule, LAST_DIVISOR_RULE)
+        or refusal_of_number(pot, MOST_COINS)
+        or refusal_of_weights(weights)
+        or refusal_of_row_beside(weights, lows)
+        or refusal_of_row_beside(weights, highs)
+        or refusal_of_bounds(pot, lows, highs)
+    )
+    if refused != ACCEPTED:
+        return [refused]
+    return [0] + by_divisor_within(rule, pot, weights, lows, highs)
+
+
+def running(rule, weights, pots):
+    """What each pot adds to the shares of all pots before it together; the value is the pots' sum."""
+    refused = (
+        refusal_of_number(rule, GREATEST_REMAINDERS)
+        or refusal_of_weights(weights)
+        or refusal_of_row(pots)
+        or refusal_of_sum(pots)
+    )
+    if refused != ACCEPTED:
+        return [refused]
+    answer = [sum(pots)]
+    for row in rows_of_pots(rule, weights, pots):
+        # One row alone needs no mark of where it ends.
+        if len(pots) > 1:
+            answer.append(len(row))
+        answer.extend(row)
+    return answer
+
+
+def tree(rule, pot, weights, sizes):
+    """Shares among groups of these sizes and then within each group; the value is 0."""
+    refused = (
+        refusal_of_number(rule, GREATEST_REMAINDERS)
+        or refusal_of_number(pot, MOST_COINS)
+        or refusal_of_weights(weights)
+        or refusal_of_row(sizes)
+    )
+    if refused == ACCEPTED and sum(sizes) != len(weights):
+        refused = WRONG_COUNT
+    if refused != ACCEPTED:
+        return [refused]
+    return [0] + by_groups(rule, pot, groups_of(weights, sizes))
+
+
 def refusal_of_number(number, most):
     """ACCEPTED if the number is from 0 to most."""
     if number < 0 or number > most:
@@ -50,7 +105,7 @@ def refusal_of_number(number, most):
 
 
 def refusal_of_row(row):
-    """ACCEPTED if the row has a fit number for each of 1 to 60 holders."""
+    """ACCEPTED if the row has 1 to 60 numbers, each from 0 to 10^15."""
     if len(row) < 1 or len(row) > MOST_HOLDERS:
         return OUT_OF_BOUNDS
     for number in row:
@@ -65,6 +120,33 @@ def refusal_of_weights(weights):
     if refused == ACCEPTED and sum(weights) == 0:
         return ALL_WEIGHTS_ZERO
     return refused
+
+
+def refusal_of_row_beside(weights, row):
+    """ACCEPTED if the row has a fit number for each holder of these weights."""
+    refused = refusal_of_row(row)
+    if refused == ACCEPTED and len(row) != len(weights):
+        return WRONG_COUNT
+    return refused
+
+
+def refusal_of_bounds(pot, lows, highs):
+    """ACCEPTED if the pot can be shared so that each holder has its low or more and its high or less."""
+    for low, high in zip(lows, highs):
+        if low > high:
+            return LOW_ABOVE_HIGH
+    if sum(lows) > pot:
+        return LOWS_ABOVE_POT
+    if sum(highs) < pot:
+        return TOO_LITTLE_ROOM
+    return ACCEPTED
+
+
+def refusal_of_sum(row):
+    """ACCEPTED if the row's numbers together are a fit pot."""
+    if sum(row) > MOST_COINS:
+        return TOO_MANY_COINS
+    return ACCEPTED
 
 
 def rounded_down(pot, weights):
@@ -89,40 +171,111 @@ def by_greatest_remainders(pot, weights):
 
 def by_divisor(rule, pot, weights):
     """Each holder's coins by the divisor rule."""
-    coins = coins_given_early(rule, pot, weights)
-    for turn in range(pot - sum(coins)):
-        coins[next_holder(rule, weights, coins)] += 1
+    return by_divisor_within(rule, pot, weights, [0] * len(weights), [pot] * len(weights))
+
+
+def by_divisor_within(rule, pot, weights, lows, highs):
+    """Each holder's coins by the divisor rule with lows and highs."""
+    reach = last_reach(rule, pot, weights, lows, highs)
+    coins = coins_in_reach(rule, reach, weights, lows, highs)
+    wanted = coins_in_reach(rule, reach + 1, weights, lows, highs)
+    left = pot - sum(coins)
+    # What one step more would add is a coin each at most, all of alike worth: so they go from the front.
+    for holder in range(len(weights)):
+        if left > 0 and wanted[holder] > coins[holder]:
+            coins[holder] += 1
+            left -= 1
+    # If coins are left now, every holder of another weight has its high.
+    for holder, weight in enumerate(weights):
+        if weight == 0:
+            added = min(left, highs[holder] - coins[holder])
+            coins[holder] += added
+            left -= added
     return coins
 
 
-def coins_given_early(rule, pot, weights):
-    """What each holder has at some moment of the giving when fewer coins than holders are left.
+def last_reach(rule, pot, weights, lows, highs):
+    """The greatest reach at which the coins in reach are not more than the pot."""
+    # At -1 each holder has its low alone.
+    within = -1
+    # At the reach ahead of this one each holder of a weight above 0 has its high, or as many coins as the pot.
+    beyond = 2 * pot * steps_of_reach(weights) + 1
+    while beyond - within > 1:
+        middle = (within + beyond) // 2
+        if sum(coins_in_reach(rule, middle, weights, lows, highs)) > pot:
+            beyond = middle
+        else:
+            within = middle
+    return within
 
-    A pot may be too great to be given one by one. All coins of worth 1 / t or more are given
-    ahead of all others, and a holder has (weight * t + rule) / 2 of them, rounded down. With
-    t = reach / whole these, before rounding, are together at most the pot, so they never pass it.
+
+def coins_in_reach(rule, reach, weights, lows, highs):
+    """Each holder's coins when its low and all coins of worth steps / reach or more are given.
+
+    A pot may be too great to be given one by one. These coins are given ahead of all others, so they
+    are what the holders have at some moment of the giving. Of a holder's coins (weight * reach / steps
+    + rule) / 2, rounded down, have that worth; the first coin of rule 2 has it from reach 0 on.
     """
-    whole = sum(weights)
-    reach = 2 * pot - rule * len(weights)
-    # Below 0 there is no such t, but then the pot is smaller than the number of holders.
-    if reach < 0:
-        return [0 for weight in weights]
-    # A holder of weight 0 gets nothing: some weight is above 0, and that holder can always get one more.
-    return [(weight * reach + rule * whole) // (2 * whole) if weight > 0 else 0 for weight in weights]
-
-
-def next_holder(rule, weights, coins):
-    """The holder whose next coin has the greatest worth; some weight is above 0."""
-    best = -1
+    steps = steps_of_reach(weights)
+    coins = list(lows)
     for holder, weight in enumerate(weights):
-        if weight > 0 and (best < 0 or next_is_worth_more(rule, weights, coins, holder, best)):
-            best = holder
-    return best
+        if weight > 0:
+            worthy = (weight * reach + rule * steps) // (2 * steps)
+            coins[holder] = min(max(worthy, lows[holder]), highs[holder])
+    return coins
 
 
-def next_is_worth_more(rule, weights, coins, one, other):
-    """Whether the next coin of the one is worth more than that of the other, both of weights above 0."""
-    one_divisor = 2 * (coins[one] + 1) - rule
-    other_divisor = 2 * (coins[other] + 1) - rule
-    # Multiplied crosswise a divisor of 0 counts as the document asks: above all others, and two alike.
-    return weights[one] * other_divisor > weights[other] * one_divisor
+def steps_of_reach(weights):
+    """How many steps of reach go to 1: so many that coins of unlike worth never come in one step.
+
+    The inverse worths of coins of two weights, when unlike, are at least 1 / (the one * the other) apart.
+    """
+    return max(weights) * max(weights)
+
+
+def by_rule(rule, pot, weights):
+    """Each holder's coins by a divisor rule or by greatest remainders."""
+    if rule == GREATEST_REMAINDERS:
+        return by_greatest_remainders(pot, weights)
+    return by_divisor(rule, pot, weights)
+
+
+def rows_of_pots(rule, weights, pots):
+    """For each pot a row: what each holder has of it and all before it, less what of all before it."""
+    rows = []
+    together = 0
+    before = [0] * len(weights)
+    for pot in pots:
+        together += pot
+        coins = by_rule(rule, together, weights)
+        rows.append(differences(before, coins))
+        before = coins
+    return rows
+
+
+def differences(before, after):
+    """For each holder the coins after less the coins before."""
+    return [late - early for early, late in zip(before, after)]
+
+
+def groups_of(weights, sizes):
+    """The weights in groups of these sizes, one behind the other."""
+    groups = []
+    start = 0
+    for size in sizes:
+        groups.append(weights[start:start + size])
+        start += size
+    return groups
+
+
+def by_groups(rule, pot, groups):
+    """Each holder's coins when the pot is shared among groups of weights, then within each."""
+    coins = []
+    pots = by_rule(rule, pot, [sum(group) for group in groups])
+    for group, part in zip(groups, pots):
+        # A group without weight has no coins, and the rules need a weight above 0.
+        if sum(group) > 0:
+            coins.extend(by_rule(rule, part, group))
+        else:
+            coins.extend([0] * len(group))
+    return coins

@@ -36,30 +36,61 @@ def worth(rule, weight, k):
     return (0, Fraction(weight, 2 * k - rule))
 
 
-def divisor_by_words(rule, most, weights):
-    """The coins of each pot from 0 to most, given one by one."""
-    # Without highs a holder of weight above 0 can always get one, so those of weight 0 never do.
-    holders = [holder for holder, weight in enumerate(weights) if weight > 0]
-    coins = [0] * len(weights)
-    rows = [list(coins)]
-    for _ in range(most):
-        holder = max(holders, key=lambda one: worth(rule, weights[one], coins[one] + 1))
+def coin_by_coin(rule, most, weights, lows, highs):
+    """The coins of each pot from the lows' sum to most, given one by one; most is at most the highs' sum."""
+    coins = list(lows)
+    rows = {sum(coins): list(coins)}
+    while sum(coins) < most:
+        able = [holder for holder, high in enumerate(highs) if coins[holder] < high]
+        weighty = [holder for holder in able if weights[holder] > 0]
+        if weighty:
+            # max gives the first of alike ones: the holder further in front.
+            holder = max(weighty, key=lambda one: worth(rule, weights[one], coins[one] + 1))
+        else:
+            # The first who can have one gets it until it can have no more.
+            holder = able[0]
         coins[holder] += 1
-        rows.append(list(coins))
+        rows[sum(coins)] = list(coins)
     return rows
 
 
-def is_given_one_by_one(rule, pot, weights, coins):
+def divisor_by_words(rule, most, weights):
+    """The coins of each pot from 0 to most, given one by one."""
+    return coin_by_coin(rule, most, weights, [0] * len(weights), [most] * len(weights))
+
+
+def rule_by_words(rule, pot, weights):
+    if rule == 3:
+        return greatest_by_words(pot, weights)
+    return divisor_by_words(rule, pot, weights)[pot]
+
+
+def is_given_one_by_one(rule, pot, weights, lows, highs, coins):
     """Whether giving the pot one by one ends at these coins, for pots too great to be given so.
 
-    It does just when every coin that was given comes ahead of every coin that was not.
+    It does just when every coin that was given behind the lows comes ahead of every coin that was not.
     """
-    holders = [holder for holder, weight in enumerate(weights) if weight > 0]
-    if sum(coins) != pot or min(coins) < 0 or sum(coins[holder] for holder in holders) != pot:
+    if sum(coins) != pot or not all(low <= has <= high for low, has, high in zip(lows, coins, highs)):
         return False
-    given = [(worth(rule, weights[one], coins[one]), -one) for one in holders if coins[one] > 0]
-    waiting = [(worth(rule, weights[one], coins[one] + 1), -one) for one in holders]
-    return not given or min(given) > max(waiting)
+
+    def place(holder, k):
+        if weights[holder] == 0:
+            # Below all others, and the holder further in front gets all of its coins first.
+            return ((-1, 0), -holder)
+        return (worth(rule, weights[holder], k), -holder)
+
+    holders = range(len(weights))
+    given = [place(one, coins[one]) for one in holders if coins[one] > lows[one]]
+    waiting = [place(one, coins[one] + 1) for one in holders if coins[one] < highs[one]]
+    # A holder of weight 0 may be in the middle of its coins, which then have one place.
+    return not given or not waiting or min(given) >= max(waiting)
+
+
+def is_by_rule(rule, pot, weights, coins):
+    """Whether the rule gives these coins, for pots and weights of any size."""
+    if rule == 3:
+        return coins == greatest_by_words(pot, weights)
+    return is_given_one_by_one(rule, pot, weights, [0] * len(weights), [pot] * len(weights), coins)
 
 
 def small_rows():
@@ -79,6 +110,28 @@ def mixed_inputs(seed, count):
         pot = source.choice([0, 1, len(weights), MOST, source.randint(0, 10 ** source.randint(1, 15))])
         if any(weights):
             yield pot, weights
+
+
+def mixed_bounds(seed, count):
+    """Bounded's pots and rows of all sizes: many highs that stop early, lows far ahead, and weights of 0."""
+    source = random.Random(seed)
+    for _, weights in mixed_inputs(seed, count):
+        size = 10 ** source.randint(0, 13)
+        lows = [source.choice([0, 0, 1, source.randint(0, size)]) for _ in weights]
+        highs = [low + source.choice([0, 1, source.randint(0, size), source.randint(0, MOST // 60)]) for low in lows]
+        least, room = sum(lows), min(sum(highs), MOST)
+        pot = source.choice([least, room, source.randint(least, room), min(least + len(weights), room)])
+        yield pot, weights, lows, highs
+
+
+def mixed_pots(seed, count):
+    """Weights and pots one after another, together at most 10^15."""
+    source = random.Random(seed)
+    for pot, weights in mixed_inputs(seed, count):
+        pots = [source.choice([0, 1, source.randint(0, pot)]) for _ in range(source.randint(1, 60))]
+        while sum(pots) > MOST:
+            pots.pop()
+        yield weights, pots
 
 
 @contextmanager

@@ -2,7 +2,7 @@ import random
 import unittest
 
 from lastcoins.shares import divisor
-from tests.helper import MOST, divisor_by_words, is_given_one_by_one, mixed_inputs, small_rows, within_seconds
+from tests.helper import MOST, divisor_by_words, is_by_rule, mixed_inputs, small_rows, within_seconds
 
 RULES = (0, 1, 2)
 
@@ -10,7 +10,7 @@ RULES = (0, 1, 2)
 class DivisorTest(unittest.TestCase):
     def check_by_words(self, most, weights):
         for rule in RULES:
-            for pot, coins in enumerate(divisor_by_words(rule, most, weights)):
+            for pot, coins in divisor_by_words(rule, most, weights).items():
                 self.assertEqual(divisor(rule, pot, weights), [0] + coins, (rule, pot, weights))
 
     def test_ordinary_inputs(self):
@@ -85,7 +85,7 @@ class DivisorTest(unittest.TestCase):
                 self.assertEqual(answer[0], 0)
                 self.assertEqual(len(answer), 1 + len(weights))
                 self.assertEqual(sum(answer[1:]), pot)
-                self.assertTrue(is_given_one_by_one(rule, pot, weights, answer[1:]), (rule, pot, weights))
+                self.assertTrue(is_by_rule(rule, pot, weights, answer[1:]), (rule, pot, weights))
 
     def test_alike_weights_in_great_pots_go_to_the_front(self):
         for rule in RULES:

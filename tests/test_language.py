@@ -88,9 +88,14 @@ class LanguageTest(unittest.TestCase):
             if isinstance(node, ast.expr):
                 self.assertIsInstance(node, EXPRESSIONS, where)
             if isinstance(node, ast.operator):
-                self.assertNotIsInstance(node, (ast.Div, ast.MatMult), where)
+                self.assertNotIsInstance(node, (ast.Div, ast.MatMult, ast.Pow), where)
+            if isinstance(node, ast.cmpop):
+                self.assertNotIsInstance(node, (ast.Is, ast.IsNot), where)
+            if isinstance(node, ast.arg):
+                self.assertIsNone(node.annotation, where)
             if isinstance(node, ast.Constant):
                 self.assertNotIsInstance(node.value, (float, complex, bytes), where)
+                self.assertNotIn("%", str(node.value), where)
             if isinstance(node, ast.Assign):
                 self.assertEqual(len(node.targets), 1, where)
             if isinstance(node, (ast.For, ast.While)):
@@ -99,7 +104,7 @@ class LanguageTest(unittest.TestCase):
                 self.assertEqual(len(node.generators), 1, where)
                 self.assertLessEqual(len(node.generators[0].ifs), 1, where)
             if isinstance(node, ast.FunctionDef):
-                self.assertEqual(node.decorator_list, [], where)
+                self.assertEqual((node.decorator_list, node.returns), ([], None), where)
             if isinstance(node, ast.arguments):
                 self.assertEqual((node.vararg, node.kwarg, node.kwonlyargs, node.posonlyargs), (None, None, [], []))
 

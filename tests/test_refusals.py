@@ -1,73 +1,145 @@
-import unittest
+"""Each call's refusals alone, and two at once: then the one that is looked for first is answered."""
 
-from lastcoins.shares import divisor, down, greatest
+import unittest
+from itertools import combinations
+
+from lastcoins import shares
 from tests.helper import MOST, within_seconds
 
 FARTHEST = 10 ** 18
+BAD_NUMBERS = (-1, MOST + 1, -FARTHEST, FARTHEST)
 
 
-def divisor_by_one(pot, weights):
-    return divisor(1, pot, weights)
+def rules(last):
+    return [({"rule": rule}, -12) for rule in (-1, last + 1, 7, -FARTHEST, FARTHEST)]
 
 
-CALLS = (down, greatest, divisor_by_one)
+def numbers(name):
+    return [({name: number}, -12) for number in BAD_NUMBERS]
+
+
+def rows(name, row):
+    """Rows that are no rows of 1 to 60 numbers from 0 to 10^15, some of them all 0 or of a wrong count too."""
+    found = [[], [1] * 61, [1] * 70, [0] * 61, [0] * 70, [-1], [0, -1], row + [-1], row[1:] + [1, 1, MOST + 1]]
+    for place in range(len(row)):
+        found += [row[:place] + [number] + row[place + 1:] for number in BAD_NUMBERS]
+    return [({name: bad}, -12) for bad in found]
+
+
+def weights(row):
+    return rows("weights", row) + [({"weights": [0] * len(row)}, -2)]
+
+
+def beside(name, row):
+    """A row of holders other than the weights: each has as many numbers."""
+    return rows(name, row) + [({name: other}, -1) for other in (row[1:], row + [0], [0], [1] * 60)]
+
+
+# For each call arguments that are taken, and the faults that it refuses, in the order in which it looks for them.
+CALLS = {
+    "down": (
+        {"pot": 7, "weights": [3, 2, 1]},
+        numbers("pot") + weights([3, 2, 1]),
+    ),
+    "greatest": (
+        {"pot": 7, "weights": [3, 2, 1]},
+        numbers("pot") + weights([3, 2, 1]),
+    ),
+    "divisor": (
+        {"rule": 1, "pot": 7, "weights": [3, 2, 1]},
+        rules(2) + numbers("pot") + weights([3, 2, 1]),
+    ),
+    "bounded": (
+        {"rule": 1, "pot": 7, "weights": [3, 2, 1], "lows": [1, 0, 1], "highs": [4, 5, 6]},
+        rules(2) + numbers("pot") + weights([3, 2, 1]) + beside("lows", [1, 0, 1]) + beside("highs", [4, 5, 6])
+        + [({"lows": [5, 0, 1]}, -5), ({"lows": [1, 0, 7]}, -5), ({"highs": [0, 9, 9]}, -5), ({"highs": [9, 9, 0]}, -5)]
+        + [({"pot": 1}, -3), ({"pot": 0}, -3)]
+        + [({"pot": 16}, -4), ({"pot": MOST}, -4), ({"highs": [1, 2, 3]}, -4)],
+    ),
+    "running": (
+        {"rule": 1, "weights": [3, 2, 1], "pots": [5, 0, 2]},
+        rules(3) + weights([3, 2, 1]) + rows("pots", [5, 0, 2])
+        + [({"pots": pots}, -6) for pots in ([MOST, 1], [1, MOST], [MOST] * 60, [MOST // 2 + 1] * 2)],
+    ),
+    "tree": (
+        {"rule": 1, "pot": 7, "weights": [3, 2, 1], "sizes": [2, 0, 1]},
+        rules(3) + numbers("pot") + weights([3, 2, 1]) + rows("sizes", [2, 0, 1])
+        + [({"sizes": sizes}, -1) for sizes in ([2], [2, 2], [0], [3, 1], [MOST], [1] * 60, [3, MOST])],
+    ),
+}
+
+LAST_RULES = {"divisor": 2, "bounded": 2, "running": 3, "tree": 3}
 
 
 class RefusalTest(unittest.TestCase):
-    def refuse(self, number, pot, weights):
-        for call in CALLS:
-            self.assertEqual(call(pot, weights), [number], (call, pot, weights))
+    def ask(self, name, changes):
+        given = dict(CALLS[name][0])
+        given.update(changes)
+        with within_seconds(5):
+            return getattr(shares, name)(**given)
 
-    def test_pot_out_of_bounds(self):
-        for pot in (-1, MOST + 1, -FARTHEST, FARTHEST):
-            self.refuse(-12, pot, [1, 2])
-
-    def test_rule_out_of_bounds(self):
-        for rule in (-1, 3, 4, -FARTHEST, FARTHEST):
-            self.assertEqual(divisor(rule, 5, [1, 2]), [-12])
-
-    def test_row_of_wrong_length(self):
-        self.refuse(-12, 5, [])
-        self.refuse(-12, 5, [1] * 61)
-        self.refuse(-12, 5, [1] * 70)
-
-    def test_weight_out_of_bounds(self):
-        for weight in (-1, MOST + 1, -FARTHEST, FARTHEST):
-            self.refuse(-12, 5, [weight])
-            self.refuse(-12, 5, [weight, 1, 2])
-            self.refuse(-12, 5, [1, weight, 2])
-            self.refuse(-12, 5, [1, 2, weight])
-
-    def test_weights_all_zero(self):
-        for count in (1, 2, 60):
-            self.refuse(-2, 5, [0] * count)
-        self.refuse(-2, 0, [0])
-        for rule in (0, 1, 2):
-            self.assertEqual(divisor(rule, 5, [0, 0]), [-2])
+    def test_each_fault_alone(self):
+        for name, (given, faults) in CALLS.items():
+            for fault, number in faults:
+                self.assertEqual(self.ask(name, fault), [number], (name, fault))
 
     def test_two_faults_at_once(self):
-        for pot in (-1, MOST + 1):
-            self.refuse(-12, pot, [0, 0])
-            self.refuse(-12, pot, [])
-        for rule in (-1, 3):
-            self.assertEqual(divisor(rule, 5, [0, 0]), [-12])
-            self.assertEqual(divisor(rule, -1, [1]), [-12])
-            self.assertEqual(divisor(rule, MOST + 1, [0]), [-12])
-        self.assertEqual(divisor(2, -1, [0]), [-12])
-        # The row's length and bounds are looked at ahead of whether it is all 0.
-        self.refuse(-12, 5, [0] * 61)
-        self.refuse(-12, 5, [0] * 70)
-        self.refuse(-12, 5, [0, 0, -1])
-        self.refuse(-12, 5, [1, -1])
-        self.refuse(-12, 5, [0, MOST + 1])
+        for name, (given, faults) in CALLS.items():
+            for (one, number), (other, later) in combinations(faults, 2):
+                if not set(one) & set(other):
+                    self.assertEqual(self.ask(name, {**one, **other}), [number], (name, one, other))
 
-    def test_what_is_just_within_bounds_is_not_refused(self):
-        for call in CALLS:
+    def test_what_has_no_fault_is_taken(self):
+        for name in CALLS:
+            self.assertGreater(len(self.ask(name, {})), 0)
+            self.assertGreaterEqual(self.ask(name, {})[0], 0, name)
+
+    def test_rules_just_within_bounds_are_taken(self):
+        for name, last in LAST_RULES.items():
+            for rule in range(last + 1):
+                self.assertGreaterEqual(self.ask(name, {"rule": rule})[0], 0, (name, rule))
+
+    def test_pots_and_weights_just_within_bounds_are_taken(self):
+        for call in (shares.down, shares.greatest, lambda pot, row: shares.divisor(1, pot, row)):
             with within_seconds(5):
                 self.assertEqual(call(0, [1]), [0, 0])
                 self.assertEqual(call(MOST, [MOST]), [0, MOST])
                 self.assertEqual(call(MOST, [0, 1]), [0, 0, MOST])
                 self.assertEqual(call(60, [1] * 60), [0] + [1] * 60)
                 self.assertEqual(call(0, [MOST] * 60), [0] + [0] * 60)
-        for rule in (0, 1, 2):
-            self.assertEqual(divisor(rule, 4, [1]), [0, 4])
+
+    def test_bounds_of_bounded(self):
+        # A low above its high comes ahead of sums that don't fit, and the lows' sum ahead of the highs'.
+        self.assertEqual(self.ask("bounded", {"lows": [9, 9, 9]}), [-5])
+        self.assertEqual(self.ask("bounded", {"lows": [1, 0, 1], "highs": [0, 0, 0]}), [-5])
+        self.assertEqual(self.ask("bounded", {"pot": 0, "lows": [0, 6, 0]}), [-5])
+        self.assertEqual(self.ask("bounded", {"pot": MOST, "lows": [0, 6, 0]}), [-5])
+        self.assertEqual(self.ask("bounded", {"pot": MOST, "lows": [MOST] * 3, "highs": [MOST] * 3}), [-3])
+        self.assertEqual(self.ask("bounded", {"lows": [4, 3, 1]}), [-3])
+        # Sums that just fit, and those one coin off.
+        self.assertEqual(self.ask("bounded", {"pot": 2}), [0, 1, 0, 1])
+        self.assertEqual(self.ask("bounded", {"pot": 15}), [0, 4, 5, 6])
+        self.assertEqual(self.ask("bounded", {"pot": 0, "lows": [0] * 3, "highs": [0] * 3}), [0, 0, 0, 0])
+        self.assertEqual(self.ask("bounded", {"pot": 1, "lows": [0] * 3, "highs": [0] * 3}), [-4])
+        # Lows and highs may be all 0 or 10^15, and highs together may be more than any pot.
+        self.assertEqual(self.ask("bounded", {"pot": 6, "lows": [0] * 3, "highs": [MOST] * 3}), [0, 3, 2, 1])
+        self.assertEqual(self.ask("bounded", {"pot": MOST, "lows": [0, MOST, 0], "highs": [MOST] * 3}), [0, 0, MOST, 0])
+
+    def test_pots_together(self):
+        self.assertEqual(self.ask("running", {"pots": [MOST]})[0], MOST)
+        self.assertEqual(self.ask("running", {"pots": [MOST - 1, 1]})[0], MOST)
+        self.assertEqual(self.ask("running", {"pots": [0] * 59 + [MOST]})[0], MOST)
+        self.assertEqual(self.ask("running", {"pots": [MOST - 1, 1, 1]}), [-6])
+        self.assertEqual(self.ask("running", {"pots": [0] * 58 + [1, MOST]}), [-6])
+        self.assertEqual(self.ask("running", {"pots": [0]}), [0, 0, 0, 0])
+        # A number out of bounds comes ahead of the sum.
+        self.assertEqual(self.ask("running", {"pots": [MOST, MOST, -1]}), [-12])
+        self.assertEqual(self.ask("running", {"pots": [MOST] * 61}), [-12])
+
+    def test_sizes_together(self):
+        self.assertEqual(self.ask("tree", {"sizes": [0] * 59 + [3]})[0], 0)
+        self.assertEqual(self.ask("tree", {"sizes": [0] * 60 + [3]}), [-12])
+        self.assertEqual(self.ask("tree", {"sizes": [4, -1]}), [-12])
+        self.assertEqual(self.ask("tree", {"sizes": [3, MOST + 1]}), [-12])
+        self.assertEqual(self.ask("tree", {"sizes": [0] * 60}), [-1])
+        self.assertEqual(self.ask("tree", {"weights": [0, 0, 0], "sizes": [1]}), [-2])
