@@ -97,6 +97,43 @@ def tree(rule, pot, weights, sizes):
     return [0] + by_groups(rule, pot, groups_of(weights, sizes))
 
 
+def fair(rule, weights, coins):
+    """The value is 1 if these coins are what the divisor rule gives of their sum, else 0."""
+    refused = refusal_of_coins(rule, weights, coins) or refusal_of_sum(coins)
+    if refused != ACCEPTED:
+        return [refused]
+    return [1 if coins == by_divisor(rule, sum(coins), weights) else 0]
+
+
+def quota(pot, i, weights):
+    """Holder i's exact share: the value is the whole coins, behind it is what rounding took."""
+    refused = (
+        refusal_of_number(pot, MOST_COINS)
+        or refusal_of_weights(weights)
+        or refusal_of_number(i, len(weights) - 1)
+    )
+    if refused != ACCEPTED:
+        return [refused]
+    return whole_and_rest(pot * weights[i], sum(weights))
+
+
+def spread(pot, weights, coins):
+    """The value is the holder furthest from its exact share, behind it is how far."""
+    refused = (
+        refusal_of_number(pot, MOST_COINS)
+        or refusal_of_weights(weights)
+        or refusal_of_row_beside(weights, coins)
+    )
+    if refused != ACCEPTED:
+        return [refused]
+    whole = sum(weights)
+    # All distances are counted in parts of one size, 1 / whole, so whole numbers compare them.
+    distances = [abs(pot * weight - has * whole) for weight, has in zip(weights, coins)]
+    furthest = max(distances)
+    # index finds the first of alike ones.
+    return [distances.index(furthest)] + whole_and_rest(furthest, whole)
+
+
 def refusal_of_number(number, most):
     """ACCEPTED if the number is from 0 to most."""
     if number < 0 or number > most:
@@ -128,6 +165,15 @@ def refusal_of_row_beside(weights, row):
     if refused == ACCEPTED and len(row) != len(weights):
         return WRONG_COUNT
     return refused
+
+
+def refusal_of_coins(rule, weights, coins):
+    """ACCEPTED if this is a divisor rule, and these are fit weights and fit coins for them."""
+    return (
+        refusal_of_number(rule, LAST_DIVISOR_RULE)
+        or refusal_of_weights(weights)
+        or refusal_of_row_beside(weights, coins)
+    )
 
 
 def refusal_of_bounds(pot, lows, highs):
@@ -279,3 +325,19 @@ def by_groups(rule, pot, groups):
         else:
             coins.extend([0] * len(group))
     return coins
+
+
+def whole_and_rest(top, bottom):
+    """top / bottom as a whole number and a fraction less than 1 in lowest terms."""
+    rest = top % bottom
+    common = common_divisor(rest, bottom)
+    return [top // bottom, rest // common, bottom // common]
+
+
+def common_divisor(one, other):
+    """The greatest number that divides both; not both are 0."""
+    while other > 0:
+        rest = one % other
+        one = other
+        other = rest
+    return one

@@ -13,17 +13,22 @@ ARGUMENTS = {
     "bounded": ["rule", "pot", "weights", "lows", "highs"],
     "running": ["rule", "weights", "pots"],
     "tree": ["rule", "pot", "weights", "sizes"],
+    "fair": ["rule", "weights", "coins"],
+    "quota": ["pot", "i", "weights"],
+    "spread": ["pot", "weights", "coins"],
 }
 
 # What is handed in under each name, each with each: ordinary, at the edges, and refused.
 RULES = (0, 1, 2, 3, 4)
 POTS = (0, 7, MOST, -1)
+HOLDERS = (0, 2, 59, -1, 60)
 WEIGHTS = ([3, 2, 1], [0, 5, 5], [MOST, 1, 0], [7], [1] * 60, [], [1] * 61, [0, 0, 0], [3, -1, 1])
 OTHER_ROWS = {
     "lows": ([1, 0, 1], [0, 0, 0], [0], [0] * 60),
     "highs": ([4, 5, 6], [MOST, MOST, MOST], [MOST], [MOST] * 60),
     "pots": ([5, 0, 2], [7], [MOST, 1], []),
     "sizes": ([2, 0, 1], [1], [30, 0, 30], [1, 1, 1], [0]),
+    "coins": ([4, 2, 1], [0, 0, 0], [0, 1, 0], [MOST, 1, 0], [9], [1] * 60, [-1]),
 }
 
 
@@ -42,6 +47,8 @@ def choices(name):
         return RULES
     if name == "pot":
         return POTS
+    if name == "i":
+        return HOLDERS
     if name == "weights":
         return WEIGHTS
     return OTHER_ROWS[name]

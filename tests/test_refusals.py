@@ -66,9 +66,22 @@ CALLS = {
         rules(3) + numbers("pot") + weights([3, 2, 1]) + rows("sizes", [2, 0, 1])
         + [({"sizes": sizes}, -1) for sizes in ([2], [2, 2], [0], [3, 1], [MOST], [1] * 60, [3, MOST])],
     ),
+    "fair": (
+        {"rule": 1, "weights": [3, 2, 1], "coins": [3, 2, 0]},
+        rules(2) + weights([3, 2, 1]) + beside("coins", [3, 2, 0])
+        + [({"coins": coins}, -6) for coins in ([MOST, 1, 0], [0, 1, MOST], [MOST] * 3)],
+    ),
+    "quota": (
+        {"pot": 7, "i": 2, "weights": [3, 2, 1]},
+        numbers("pot") + weights([3, 2, 1]) + numbers("i") + [({"i": 3}, -12), ({"i": 60}, -12)],
+    ),
+    "spread": (
+        {"pot": 7, "weights": [3, 2, 1], "coins": [3, 2, 0]},
+        numbers("pot") + weights([3, 2, 1]) + beside("coins", [3, 2, 0]),
+    ),
 }
 
-LAST_RULES = {"divisor": 2, "bounded": 2, "running": 3, "tree": 3}
+LAST_RULES = {"divisor": 2, "bounded": 2, "running": 3, "tree": 3, "fair": 2}
 
 
 class RefusalTest(unittest.TestCase):
@@ -143,3 +156,16 @@ class RefusalTest(unittest.TestCase):
         self.assertEqual(self.ask("tree", {"sizes": [3, MOST + 1]}), [-12])
         self.assertEqual(self.ask("tree", {"sizes": [0] * 60}), [-1])
         self.assertEqual(self.ask("tree", {"weights": [0, 0, 0], "sizes": [1]}), [-2])
+
+    def test_a_holder_is_looked_at_last(self):
+        self.assertEqual(self.ask("quota", {"i": -1, "weights": [0, 0, 0]}), [-2])
+        self.assertEqual(self.ask("quota", {"i": 3, "weights": [0, 0, 0]}), [-2])
+        self.assertEqual(self.ask("quota", {"i": 3, "weights": [3, 2, 1, 1]})[0], 1)
+
+    def test_coins_together(self):
+        self.assertEqual(self.ask("fair", {"coins": [MOST, 0, 0]}), [0])
+        self.assertEqual(self.ask("fair", {"coins": [MOST - 1, 0, 2]}), [-6])
+        # Numbers out of bounds and a wrong count come ahead of the sum; spread asks nothing of the sum.
+        self.assertEqual(self.ask("fair", {"coins": [MOST, MOST, -1]}), [-12])
+        self.assertEqual(self.ask("fair", {"coins": [MOST, MOST]}), [-1])
+        self.assertEqual(self.ask("spread", {"pot": 0, "coins": [MOST, MOST, MOST]}), [0, MOST, 0, 1])
