@@ -16,11 +16,12 @@ LOWS_ABOVE_POT = -3
 TOO_LITTLE_ROOM = -4
 LOW_ABOVE_HIGH = -5
 TOO_MANY_COINS = -6
+NOBODY_HAS_COINS = -7
 
 
 def down(pot, weights):
     """Each exact share rounded down; the value is how many coins are left."""
-    refused = refusal_of_number(pot, MOST_COINS) or refusal_of_weights(weights)
+    refused = refusal_of_pot(pot, weights)
     if refused != ACCEPTED:
         return [refused]
     coins = rounded_down(pot, weights)
@@ -29,7 +30,7 @@ def down(pot, weights):
 
 def greatest(pot, weights):
     """Shares by greatest remainders; the value is how many coins rounding down leaves."""
-    refused = refusal_of_number(pot, MOST_COINS) or refusal_of_weights(weights)
+    refused = refusal_of_pot(pot, weights)
     if refused != ACCEPTED:
         return [refused]
     left = pot - sum(rounded_down(pot, weights))
@@ -38,11 +39,7 @@ def greatest(pot, weights):
 
 def divisor(rule, pot, weights):
     """Shares by the divisor rule 0, 1 or 2; the value is 0."""
-    refused = (
-        refusal_of_number(rule, LAST_DIVISOR_RULE)
-        or refusal_of_number(pot, MOST_COINS)
-        or refusal_of_weights(weights)
-    )
+    refused = refusal_of_number(rule, LAST_DIVISOR_RULE) or refusal_of_pot(pot, weights)
     if refused != ACCEPTED:
         return [refused]
     return [0] + by_divisor(rule, pot, weights)
@@ -52,8 +49,7 @@ def bounded(rule, pot, weights, lows, highs):
     """Shares by the divisor rule 0, 1 or 2 with lows and highs; the value is 0."""
     refused = (
         refusal_of_number(rule, LAST_DIVISOR_RULE)
-        or refusal_of_number(pot, MOST_COINS)
-        or refusal_of_weights(weights)
+        or refusal_of_pot(pot, weights)
         or refusal_of_row_beside(weights, lows)
         or refusal_of_row_beside(weights, highs)
         or refusal_of_bounds(pot, lows, highs)
@@ -86,8 +82,7 @@ def tree(rule, pot, weights, sizes):
     """Shares among groups of these sizes and then within each group; the value is 0."""
     refused = (
         refusal_of_number(rule, GREATEST_REMAINDERS)
-        or refusal_of_number(pot, MOST_COINS)
-        or refusal_of_weights(weights)
+        or refusal_of_pot(pot, weights)
         or refusal_of_row(sizes)
     )
     if refused == ACCEPTED and sum(sizes) != len(weights):
@@ -107,11 +102,7 @@ def fair(rule, weights, coins):
 
 def quota(pot, i, weights):
     """Holder i's exact share: the value is the whole coins, behind it is what rounding took."""
-    refused = (
-        refusal_of_number(pot, MOST_COINS)
-        or refusal_of_weights(weights)
-        or refusal_of_number(i, len(weights) - 1)
-    )
+    refused = refusal_of_pot(pot, weights) or refusal_of_number(i, len(weights) - 1)
     if refused != ACCEPTED:
         return [refused]
     return whole_and_rest(pot * weights[i], sum(weights))
@@ -119,11 +110,7 @@ def quota(pot, i, weights):
 
 def spread(pot, weights, coins):
     """The value is the holder furthest from its exact share, behind it is how far."""
-    refused = (
-        refusal_of_number(pot, MOST_COINS)
-        or refusal_of_weights(weights)
-        or refusal_of_row_beside(weights, coins)
-    )
+    refused = refusal_of_pot(pot, weights) or refusal_of_row_beside(weights, coins)
     if refused != ACCEPTED:
         return [refused]
     whole = sum(weights)
@@ -132,6 +119,48 @@ def spread(pot, weights, coins):
     furthest = max(distances)
     # index finds the first of alike ones.
     return [distances.index(furthest)] + whole_and_rest(furthest, whole)
+
+
+def next_of(rule, weights, coins):
+    """The value is the holder whose next coin has the greatest worth."""
+    refused = refusal_of_coins(rule, weights, coins)
+    if refused != ACCEPTED:
+        return [refused]
+    with_next = [has + 1 for has in coins]
+    best = 0
+    for holder in range(len(weights)):
+        if is_worth_more(rule, weights, with_next, holder, best):
+            best = holder
+    return [best]
+
+
+def last(rule, weights, coins):
+    """The value is the holder whose last coin has the least worth, of those who have a coin."""
+    refused = refusal_of_coins(rule, weights, coins)
+    if refused == ACCEPTED and sum(coins) == 0:
+        refused = NOBODY_HAS_COINS
+    if refused != ACCEPTED:
+        return [refused]
+    having = [holder for holder, has in enumerate(coins) if has > 0]
+    least = having[0]
+    for holder in having:
+        # Of alike ones the holder further behind comes later and takes the place.
+        if not is_worth_more(rule, weights, coins, holder, least):
+            least = holder
+    return [least]
+
+
+def moves(rule, pot, other, weights):
+    """What each holder has more of the other pot; the value is how many have fewer coins of it."""
+    refused = (
+        refusal_of_number(rule, GREATEST_REMAINDERS)
+        or refusal_of_number(pot, MOST_COINS)
+        or refusal_of_pot(other, weights)
+    )
+    if refused != ACCEPTED:
+        return [refused]
+    changes = differences(by_rule(rule, pot, weights), by_rule(rule, other, weights))
+    return [len([change for change in changes if change < 0])] + changes
 
 
 def refusal_of_number(number, most):
@@ -143,11 +172,8 @@ def refusal_of_number(number, most):
 
 def refusal_of_row(row):
     """ACCEPTED if the row has 1 to 60 numbers, each from 0 to 10^15."""
-    if len(row) < 1 or len(row) > MOST_HOLDERS:
+    if len(row) < 1 or len(row) > MOST_HOLDERS or min(row) < 0 or max(row) > MOST_COINS:
         return OUT_OF_BOUNDS
-    for number in row:
-        if refusal_of_number(number, MOST_COINS) != ACCEPTED:
-            return OUT_OF_BOUNDS
     return ACCEPTED
 
 
@@ -157,6 +183,11 @@ def refusal_of_weights(weights):
     if refused == ACCEPTED and sum(weights) == 0:
         return ALL_WEIGHTS_ZERO
     return refused
+
+
+def refusal_of_pot(pot, weights):
+    """ACCEPTED if the pot is fit and these are fit weights to share it by."""
+    return refusal_of_number(pot, MOST_COINS) or refusal_of_weights(weights)
 
 
 def refusal_of_row_beside(weights, row):
@@ -169,11 +200,8 @@ def refusal_of_row_beside(weights, row):
 
 def refusal_of_coins(rule, weights, coins):
     """ACCEPTED if this is a divisor rule, and these are fit weights and fit coins for them."""
-    return (
-        refusal_of_number(rule, LAST_DIVISOR_RULE)
-        or refusal_of_weights(weights)
-        or refusal_of_row_beside(weights, coins)
-    )
+    refused = refusal_of_number(rule, LAST_DIVISOR_RULE) or refusal_of_weights(weights)
+    return refused or refusal_of_row_beside(weights, coins)
 
 
 def refusal_of_bounds(pot, lows, highs):
@@ -277,6 +305,14 @@ def steps_of_reach(weights):
     The inverse worths of coins of two weights, when unlike, are at least 1 / (the one * the other) apart.
     """
     return max(weights) * max(weights)
+
+
+def is_worth_more(rule, weights, coins, one, other):
+    """Whether the last of the one's coins is worth more than the last of the other's; both have coins."""
+    if weights[one] == 0 or weights[other] == 0:
+        return weights[one] > weights[other]
+    # Multiplied crosswise a divisor of 0 counts as the document asks: above all others, and two alike.
+    return weights[one] * (2 * coins[other] - rule) > weights[other] * (2 * coins[one] - rule)
 
 
 def by_rule(rule, pot, weights):

@@ -36,6 +36,11 @@ def worth(rule, weight, k):
     return (0, Fraction(weight, 2 * k - rule))
 
 
+def place_of_coin(rule, weight, k):
+    """The worth, with a weight of 0 below every other and alike among themselves."""
+    return (-1, 0) if weight == 0 else worth(rule, weight, k)
+
+
 def coin_by_coin(rule, most, weights, lows, highs):
     """The coins of each pot from the lows' sum to most, given one by one; most is at most the highs' sum."""
     coins = list(lows)
@@ -74,10 +79,7 @@ def is_given_one_by_one(rule, pot, weights, lows, highs, coins):
         return False
 
     def place(holder, k):
-        if weights[holder] == 0:
-            # Below all others, and the holder further in front gets all of its coins first.
-            return ((-1, 0), -holder)
-        return (worth(rule, weights[holder], k), -holder)
+        return (place_of_coin(rule, weights[holder], k), -holder)
 
     holders = range(len(weights))
     given = [place(one, coins[one]) for one in holders if coins[one] > lows[one]]

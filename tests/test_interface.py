@@ -16,6 +16,9 @@ ARGUMENTS = {
     "fair": ["rule", "weights", "coins"],
     "quota": ["pot", "i", "weights"],
     "spread": ["pot", "weights", "coins"],
+    "next_of": ["rule", "weights", "coins"],
+    "last": ["rule", "weights", "coins"],
+    "moves": ["rule", "pot", "other", "weights"],
 }
 
 # What is handed in under each name, each with each: ordinary, at the edges, and refused.
@@ -45,7 +48,7 @@ class Untouchable(list):
 def choices(name):
     if name == "rule":
         return RULES
-    if name == "pot":
+    if name in ("pot", "other"):
         return POTS
     if name == "i":
         return HOLDERS

@@ -79,9 +79,23 @@ CALLS = {
         {"pot": 7, "weights": [3, 2, 1], "coins": [3, 2, 0]},
         numbers("pot") + weights([3, 2, 1]) + beside("coins", [3, 2, 0]),
     ),
+    "next_of": (
+        {"rule": 1, "weights": [3, 2, 1], "coins": [3, 2, 0]},
+        rules(2) + weights([3, 2, 1]) + beside("coins", [3, 2, 0]),
+    ),
+    "last": (
+        {"rule": 1, "weights": [3, 2, 1], "coins": [3, 2, 0]},
+        rules(2) + weights([3, 2, 1]) + beside("coins", [3, 2, 0]) + [({"coins": [0, 0, 0]}, -7)],
+    ),
+    "moves": (
+        {"rule": 1, "pot": 7, "other": 5, "weights": [3, 2, 1]},
+        rules(3) + numbers("pot") + numbers("other") + weights([3, 2, 1]),
+    ),
 }
 
-LAST_RULES = {"divisor": 2, "bounded": 2, "running": 3, "tree": 3, "fair": 2}
+LAST_RULES = {
+    "divisor": 2, "bounded": 2, "running": 3, "tree": 3, "fair": 2, "next_of": 2, "last": 2, "moves": 3,
+}
 
 
 class RefusalTest(unittest.TestCase):
@@ -169,3 +183,15 @@ class RefusalTest(unittest.TestCase):
         self.assertEqual(self.ask("fair", {"coins": [MOST, MOST, -1]}), [-12])
         self.assertEqual(self.ask("fair", {"coins": [MOST, MOST]}), [-1])
         self.assertEqual(self.ask("spread", {"pot": 0, "coins": [MOST, MOST, MOST]}), [0, MOST, 0, 1])
+
+    def test_the_other_pot_and_nobody_with_a_coin(self):
+        for pot in (0, MOST):
+            self.assertGreaterEqual(self.ask("moves", {"other": pot})[0], 0)
+        self.assertEqual(self.ask("moves", {"other": -1, "weights": [0, 0, 0]}), [-12])
+        self.assertEqual(self.ask("moves", {"pot": MOST + 1, "weights": [0, 0, 0]}), [-12])
+        # Coins that are all 0 are refused by last alone, and there behind all else; their sum has no bound.
+        self.assertEqual(self.ask("next_of", {"coins": [0, 0, 0]}), [0])
+        self.assertEqual(self.ask("last", {"coins": [0, 0]}), [-1])
+        self.assertEqual(self.ask("last", {"coins": [0, 0, 0, -1]}), [-12])
+        self.assertEqual(self.ask("next_of", {"coins": [MOST, MOST, MOST]}), [0])
+        self.assertEqual(self.ask("last", {"coins": [MOST, MOST, MOST]}), [2])
