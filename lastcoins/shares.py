@@ -163,6 +163,18 @@ def moves(rule, pot, other, weights):
     return [len([change for change in changes if change < 0])] + changes
 
 
+def level(pot, caps):
+    """Coins given by turns, one each from the front, up to the caps; the value is the greatest share."""
+    refused = refusal_of_number(pot, MOST_COINS) or refusal_of_row(caps)
+    if refused == ACCEPTED and sum(caps) < pot:
+        refused = TOO_LITTLE_ROOM
+    if refused != ACCEPTED:
+        return [refused]
+    # A turn for each is the divisor rule of alike weights: a coin goes to who has fewest, from the front.
+    coins = by_divisor_within(0, pot, [1] * len(caps), [0] * len(caps), caps)
+    return [max(coins)] + coins
+
+
 def refusal_of_number(number, most):
     """ACCEPTED if the number is from 0 to most."""
     if number < 0 or number > most:

@@ -19,6 +19,7 @@ ARGUMENTS = {
     "next_of": ["rule", "weights", "coins"],
     "last": ["rule", "weights", "coins"],
     "moves": ["rule", "pot", "other", "weights"],
+    "level": ["pot", "caps"],
 }
 
 # What is handed in under each name, each with each: ordinary, at the edges, and refused.
@@ -32,6 +33,7 @@ OTHER_ROWS = {
     "pots": ([5, 0, 2], [7], [MOST, 1], []),
     "sizes": ([2, 0, 1], [1], [30, 0, 30], [1, 1, 1], [0]),
     "coins": ([4, 2, 1], [0, 0, 0], [0, 1, 0], [MOST, 1, 0], [9], [1] * 60, [-1]),
+    "caps": ([3, 0, 4], [0, 0], [MOST] * 60, [9], [MOST, 2], [], [3, -1]),
 }
 
 

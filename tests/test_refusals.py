@@ -91,6 +91,11 @@ CALLS = {
         {"rule": 1, "pot": 7, "other": 5, "weights": [3, 2, 1]},
         rules(3) + numbers("pot") + numbers("other") + weights([3, 2, 1]),
     ),
+    "level": (
+        {"pot": 5, "caps": [3, 0, 4]},
+        numbers("pot") + rows("caps", [3, 0, 4])
+        + [({"pot": 8}, -4), ({"pot": MOST}, -4), ({"caps": [3, 0, 1]}, -4), ({"caps": [0, 0]}, -4), ({"caps": [4]}, -4)],
+    ),
 }
 
 LAST_RULES = {
@@ -195,3 +200,16 @@ class RefusalTest(unittest.TestCase):
         self.assertEqual(self.ask("last", {"coins": [0, 0, 0, -1]}), [-12])
         self.assertEqual(self.ask("next_of", {"coins": [MOST, MOST, MOST]}), [0])
         self.assertEqual(self.ask("last", {"coins": [MOST, MOST, MOST]}), [2])
+
+    def test_caps_together(self):
+        self.assertEqual(self.ask("level", {"pot": 7}), [4, 3, 0, 4])
+        self.assertEqual(self.ask("level", {"pot": 8}), [-4])
+        self.assertEqual(self.ask("level", {"pot": 0, "caps": [0, 0, 0]}), [0, 0, 0, 0])
+        self.assertEqual(self.ask("level", {"pot": 1, "caps": [0, 0, 0]}), [-4])
+        self.assertEqual(self.ask("level", {"pot": MOST, "caps": [MOST]}), [MOST, MOST])
+        self.assertEqual(self.ask("level", {"pot": MOST, "caps": [MOST - 1]}), [-4])
+        self.assertEqual(self.ask("level", {"pot": 0, "caps": [MOST] * 60}), [0] + [0] * 60)
+        # Numbers out of bounds and a wrong length come ahead of the sum.
+        self.assertEqual(self.ask("level", {"pot": 5, "caps": [1, -1]}), [-12])
+        self.assertEqual(self.ask("level", {"pot": 5, "caps": [0] * 61}), [-12])
+        self.assertEqual(self.ask("level", {"pot": 5, "caps": []}), [-12])
